@@ -1,0 +1,185 @@
+// Package rules holds the program's own text against LANGUAGE.md and DOC.md's map: it has tests alone.
+package rules
+
+import (
+	"go/ast"
+	"go/format"
+	"go/parser"
+	"go/token"
+	"io/fs"
+	"os"
+	"path/filepath"
+	"slices"
+	"strconv"
+	"strings"
+	"testing"
+)
+
+const root = ".."
+
+// mostLines is LANGUAGE.md's rule 9.
+const mostLines = 60
+
+const library = "bytes cmp container/heap errors iter maps math math/big math/bits slices sort strconv strings sync sync/atomic unicode unicode/utf8"
+
+// calls is the column 'calls' of DOC.md's map.
+var calls = map[string]string{
+	"api": "", "num": "", "text": "", "pack": "", "mem": "", "stack": "",
+	"prim":    "num mem stack",
+	"cart":    "pack",
+	"vm":      "mem stack prim cart",
+	"token":   "text",
+	"tree":    "text prim token",
+	"effect":  "prim tree",
+	"layout":  "tree",
+	"emit":    "prim effect layout cart",
+	"comp":    "tree layout emit cart",
+	"meaning": "mem stack prim tree layout",
+	"flow":    "prim cart",
+	"infer":   "prim flow",
+	"check":   "cart flow infer",
+	"console": "mem cart vm comp check",
+	"shot":    "pack",
+	"replay":  "pack console shot",
+	"state":   "pack mem vm console",
+	"dis":     "prim flow tree emit",
+	"tidy":    "num prim tree effect",
+	"debug":   "vm mem flow",
+	"corpus":  "comp",
+	"script":  "tree effect comp cart console check shot replay dis tidy corpus",
+}
+
+// files tells the paths of the project's files with that ending; those that are laid beside the project are not its own.
+func files(t *testing.T, ending string) []string {
+	t.Helper()
+	var found []string
+	err := filepath.WalkDir(root, func(path string, d fs.DirEntry, err error) error {
+		if err != nil {
+			return err
+		}
+		if d.IsDir() && slices.Contains([]string{".git", ".ci", "sharedtests"}, d.Name()) {
+			return filepath.SkipDir
+		}
+		if !d.IsDir() && strings.HasSuffix(path, ending) {
+			found = append(found, path)
+		}
+		return nil
+	})
+	if err != nil || len(found) == 0 {
+		t.Fatalf("%d files that end with %q: %v", len(found), ending, err)
+	}
+	return found
+}
+
+func read(t *testing.T, path string) []byte {
+	t.Helper()
+	b, err := os.ReadFile(path)
+	if err != nil {
+		t.Fatal(err)
+	}
+	return b
+}
+
+// parsed is a file of the program: tests may use all of Go, and are left out.
+type parsed struct {
+	path, folder string
+	set          *token.FileSet
+	tree         *ast.File
+}
+
+func program(t *testing.T) []parsed {
+	t.Helper()
+	var all []parsed
+	for _, path := range files(t, ".go") {
+		if strings.HasSuffix(path, "_test.go") {
+			continue
+		}
+		set := token.NewFileSet()
+		tree, err := parser.ParseFile(set, path, nil, parser.ParseComments)
+		if err != nil {
+			t.Fatal(err)
+		}
+		all = append(all, parsed{path, filepath.Base(filepath.Dir(path)), set, tree})
+	}
+	return all
+}
+
+func has(words, word string) bool { return slices.Contains(strings.Fields(words), word) }
+
+func TestLayout(t *testing.T) {
+	for _, path := range files(t, ".go") {
+		text := read(t, path)
+		want, err := format.Source(text)
+		if err != nil || string(want) != string(text) {
+			t.Errorf("%s: not in gofmt's layout (%v)", path, err)
+		}
+	}
+}
+
+func TestModule(t *testing.T) {
+	if got := string(read(t, filepath.Join(root, "go.mod"))); got != "module wisp\n\ngo 1.27\n" {
+		t.Errorf("go.mod: %q", got)
+	}
+}
+
+func TestPackagesAreThere(t *testing.T) {
+	there := map[string]int{}
+	for _, f := range program(t) {
+		there[f.folder]++
+	}
+	for name := range calls {
+		if there[name] == 0 {
+			t.Errorf("package %s has no file", name)
+		}
+	}
+}
+
+func TestImports(t *testing.T) {
+	for _, f := range program(t) {
+		for _, i := range f.tree.Imports {
+			path, err := strconv.Unquote(i.Path.Value)
+			if err != nil {
+				t.Fatal(err)
+			}
+			own, isOwn := strings.CutPrefix(path, "wisp/")
+			if !isOwn && !has(library, path) {
+				t.Errorf("%s imports %s", f.path, path)
+			}
+			_, isLayer := calls[own]
+			if isOwn && isLayer && own != "api" && !has(calls[f.folder], own) {
+				t.Errorf("%s imports %s, which the map does not give to %s", f.path, path, f.folder)
+			}
+		}
+	}
+}
+
+func TestNoOtherFiles(t *testing.T) {
+	for _, path := range files(t, "") {
+		if filepath.Dir(path) != root && !strings.HasSuffix(path, ".go") {
+			t.Errorf("%s: beside Go files there are none in a package", path)
+		}
+	}
+}
+
+func TestNoLinesForTheCompiler(t *testing.T) {
+	for _, f := range program(t) {
+		for _, group := range f.tree.Comments {
+			for _, c := range group.List {
+				if strings.HasPrefix(c.Text, "//go:") || strings.HasPrefix(c.Text, "// +build") {
+					t.Errorf("%s: %s", f.path, c.Text)
+				}
+			}
+		}
+	}
+}
+
+func TestFunctionsAreSmall(t *testing.T) {
+	for _, f := range program(t) {
+		for _, d := range f.tree.Decls {
+			lines := f.set.Position(d.End()).Line - f.set.Position(d.Pos()).Line + 1
+			if fn, ok := d.(*ast.FuncDecl); ok && lines > mostLines {
+				t.Errorf("%s: %s has %d lines", f.path, fn.Name.Name, lines)
+			}
+		}
+	}
+}
