@@ -183,3 +183,51 @@ func TestFunctionsAreSmall(t *testing.T) {
 		}
 	}
 }
+
+// startUp tells how many package variables of a package start-up code fills: DOC.md's section 'Ways'.
+var startUp = map[string]int{"pack": 1, "corpus": 1}
+
+// writtenOut tells whether a package variable's value stands where it is declared, and is no map.
+func writtenOut(value ast.Expr) bool {
+	switch x := value.(type) {
+	case *ast.CompositeLit:
+		_, isMap := x.Type.(*ast.MapType)
+		return !isMap
+	case *ast.CallExpr:
+		s, ok := x.Fun.(*ast.SelectorExpr)
+		if !ok {
+			return false
+		}
+		from, ok := s.X.(*ast.Ident)
+		return ok && from.Name == "errors" && s.Sel.Name == "New"
+	}
+	return false
+}
+
+func TestPackageVariables(t *testing.T) {
+	filled := map[string]int{}
+	for _, f := range program(t) {
+		for _, d := range f.tree.Decls {
+			g, ok := d.(*ast.GenDecl)
+			if !ok || g.Tok != token.VAR {
+				continue
+			}
+			for _, s := range g.Specs {
+				v := s.(*ast.ValueSpec)
+				for i := range v.Names {
+					if i >= len(v.Values) || !writtenOut(v.Values[i]) {
+						filled[f.folder]++
+					}
+				}
+			}
+		}
+	}
+	for folder, many := range filled {
+		if many > startUp[folder] {
+			t.Errorf("package %s: %d variables whose value is not written out where they are declared, want at most %d", folder, many, startUp[folder])
+		}
+	}
+	if filled["pack"] != 1 {
+		t.Error("package pack: start-up code makes no table")
+	}
+}
