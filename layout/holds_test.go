@@ -10,6 +10,7 @@ import (
 	"testing"
 
 	"wisp/api"
+	"wisp/emit"
 	"wisp/layout"
 	"wisp/tree"
 	"wisp/vm"
@@ -344,18 +345,21 @@ func (m maker) wellFormed(t *testing.T) string {
 	return src
 }
 
-func TestCodeLiesThere(t *testing.T) { // 12.4: by the code that chapter 13 makes of a source
+func cellAt(code []byte, at uint16) uint16 { return uint16(code[at]) + 256*uint16(code[at+1]) }
+
+func TestCodeLiesThere(t *testing.T) { // 12.4: the code of a source, as layer 13 makes it, and as these tests do
 	m := makerOf(1204)
 	for range 1000 {
 		src := m.wellFormed(t)
 		p := taken(t, src)
 		places, size, _, _, e := layout.Of(p)
+		code, f := emit.Code(p)
 		c := madeOf(p.Defs)
-		if e != fine || size != 2*len(c.cells) {
-			t.Fatalf("%s: code %d, %d; %d cells", src, size, e, len(c.cells))
+		if e != fine || f != fine || size != len(code) || size != 2*len(c.cells) {
+			t.Fatalf("%s: code %d, %d; emit.Code has %d bytes, %d; want %d cells", src, size, e, len(code), f, len(c.cells))
 		}
 		for i, x := range places {
-			field, behind := c.cells[x.At/2], c.cells[x.At/2+1]
+			field, behind := cellAt(code, x.At), cellAt(code, x.At+2)
 			kind := p.Defs[i].Kind
 			if int(x.At) != c.at[i] || kind == defWord && field != 1 || kind != defWord && field != 2 {
 				t.Fatalf("%s: %+v: the cell there is %d", src, x, field)
