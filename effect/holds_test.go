@@ -10,6 +10,7 @@ import (
 
 	"wisp/api"
 	"wisp/effect"
+	"wisp/spare"
 	"wisp/vm"
 )
 
@@ -424,52 +425,6 @@ func TestThreeBodies(t *testing.T) { // 11.8
 	}
 }
 
-// roomy is a program whose lists have room behind them, with something there.
-func roomy(p api.Program) api.Program {
-	p.Defs = withRoom(p.Defs, api.Def{Kind: 77, Name: "room"})
-	for i := range p.Defs {
-		p.Defs[i].Body = roomyNodes(p.Defs[i].Body)
-	}
-	p.Banks = withRoom(p.Banks, api.Bank{Num: 77})
-	for i := range p.Banks {
-		p.Banks[i].Data = withRoom(p.Banks[i].Data, 77)
-	}
-	return p
-}
-
-func roomyNodes(list []api.Node) []api.Node {
-	list = withRoom(list, api.Node{Kind: 77, Name: "room"})
-	for i := range list {
-		list[i].Then, list[i].Else = roomyNodes(list[i].Then), roomyNodes(list[i].Else)
-	}
-	return list
-}
-
-func withRoom[T any](list []T, behind T) []T {
-	n := len(list)
-	return append(slices.Clone(list), behind, behind, behind)[:n]
-}
-
-// whole is a program with the room of its lists as if it were in them.
-func whole(p api.Program) api.Program {
-	p.Defs, p.Banks = slices.Clone(p.Defs[:cap(p.Defs)]), slices.Clone(p.Banks[:cap(p.Banks)])
-	for i := range p.Defs {
-		p.Defs[i].Body = wholeNodes(p.Defs[i].Body)
-	}
-	for i := range p.Banks {
-		p.Banks[i].Data = slices.Clone(p.Banks[i].Data[:cap(p.Banks[i].Data)])
-	}
-	return p
-}
-
-func wholeNodes(list []api.Node) []api.Node {
-	list = slices.Clone(list[:cap(list)])
-	for i := range list {
-		list[i].Then, list[i].Else = wholeNodes(list[i].Then), wholeNodes(list[i].Else)
-	}
-	return list
-}
-
 func TestWhatIsHandedInStays(t *testing.T) { // R3, R5: spare room too
 	m := &maker{Rand: rand.New(rand.NewSource(1191))}
 	for range 200 {
@@ -477,11 +432,11 @@ func TestWhatIsHandedInStays(t *testing.T) { // R3, R5: spare room too
 		if m.Intn(2) == 0 {
 			src += " 3 bank { 1 2 3 } 7 bank { }"
 		}
-		p := roomy(taken(t, src))
-		before := whole(p)
+		p := spare.Program(taken(t, src))
+		before := spare.Whole(p)
 		l, e := effect.Shapes(p)
 		bad, at := effect.Typable(p)
-		if !reflect.DeepEqual(whole(p), before) {
+		if !reflect.DeepEqual(spare.Whole(p), before) {
 			t.Fatalf("%s: the program has changed", src)
 		}
 		plain := taken(t, src)

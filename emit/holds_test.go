@@ -12,6 +12,7 @@ import (
 	"wisp/effect"
 	"wisp/emit"
 	"wisp/layout"
+	"wisp/spare"
 	"wisp/tree"
 	"wisp/vm"
 )
@@ -211,64 +212,18 @@ func TestBanksAreThoseOfTheMachine(t *testing.T) { // 13.3
 	}
 }
 
-// roomy is a program whose lists have room behind them, with something there.
-func roomy(p api.Program) api.Program {
-	p.Defs = withRoom(p.Defs, api.Def{Kind: 77, Name: "room"})
-	for i := range p.Defs {
-		p.Defs[i].Body = roomyNodes(p.Defs[i].Body)
-	}
-	p.Banks = withRoom(p.Banks, api.Bank{Num: 77})
-	for i := range p.Banks {
-		p.Banks[i].Data = withRoom(p.Banks[i].Data, 77)
-	}
-	return p
-}
-
-func roomyNodes(list []api.Node) []api.Node {
-	list = withRoom(list, api.Node{Kind: 77, Name: "room"})
-	for i := range list {
-		list[i].Then, list[i].Else = roomyNodes(list[i].Then), roomyNodes(list[i].Else)
-	}
-	return list
-}
-
-func withRoom[T any](list []T, behind T) []T {
-	n := len(list)
-	return append(slices.Clone(list), behind, behind, behind)[:n]
-}
-
-// whole is a program with the room of its lists as if it were in them.
-func whole(p api.Program) api.Program {
-	p.Defs, p.Banks = slices.Clone(p.Defs[:cap(p.Defs)]), slices.Clone(p.Banks[:cap(p.Banks)])
-	for i := range p.Defs {
-		p.Defs[i].Body = wholeNodes(p.Defs[i].Body)
-	}
-	for i := range p.Banks {
-		p.Banks[i].Data = slices.Clone(p.Banks[i].Data[:cap(p.Banks[i].Data)])
-	}
-	return p
-}
-
-func wholeNodes(list []api.Node) []api.Node {
-	list = slices.Clone(list[:cap(list)])
-	for i := range list {
-		list[i].Then, list[i].Else = wholeNodes(list[i].Then), wholeNodes(list[i].Else)
-	}
-	return list
-}
-
 func TestWhatIsHandedInStays(t *testing.T) { // R3, R5: spare room too; what lies there does not matter
 	m := makerOf(1306)
 	for i := range 300 {
 		src := m.some()
-		p, plain := roomy(taken(t, src)), taken(t, src)
+		p, plain := spare.Program(taken(t, src)), taken(t, src)
 		if i%10 == 0 { // one that has an error
 			p.Defs[0].Name, plain.Defs[0].Name = "if", "if"
 		}
-		before := whole(p)
+		before := spare.Whole(p)
 		b, e := emit.Code(p)
 		c, f := emit.Cart(p)
-		if !reflect.DeepEqual(whole(p), before) {
+		if !reflect.DeepEqual(spare.Whole(p), before) {
 			t.Fatalf("%s: the program has changed", src)
 		}
 		k, g := emit.Code(plain)
@@ -279,34 +234,27 @@ func TestWhatIsHandedInStays(t *testing.T) { // R3, R5: spare room too; what lie
 	}
 }
 
-// overwrite writes over a list, its room too.
-func overwrite[T any](list []T, x T) {
-	for i, all := 0, list[:cap(list)]; i < len(all); i++ {
-		all[i] = x
-	}
-}
-
 func TestWhatIsHandedOutIsApart(t *testing.T) { // R3, R5: it may be written over, its room too, the banks too
 	m := makerOf(1307)
 	for range 200 {
-		p := roomy(taken(t, m.some()))
-		p.Banks = roomy(api.Program{Banks: []api.Bank{{Num: 2, Data: []byte{1, 2}}, {Num: 4}, {Num: 5, Data: []byte{3}}}}).Banks
-		before := whole(p)
+		p := spare.Program(taken(t, m.some()))
+		p.Banks = spare.Program(api.Program{Banks: []api.Bank{{Num: 2, Data: []byte{1, 2}}, {Num: 4}, {Num: 5, Data: []byte{3}}}}).Banks
+		before := spare.Whole(p)
 		b, _ := emit.Code(p)
 		code := slices.Clone(b)
 		c, e := emit.Cart(p)
 		want := cloned(c)
 		other, _ := emit.Code(p)
 		second, _ := emit.Cart(p)
-		overwrite(b, 99)
-		overwrite(c.Code, 99)
-		overwrite(c.Effects, api.Effect{At: 9, In: 9, Out: 9})
+		spare.Over(b, 99)
+		spare.Over(c.Code, 99)
+		spare.Over(c.Effects, api.Effect{At: 9, In: 9, Out: 9})
 		for _, k := range c.Banks {
-			overwrite(k.Data, 99)
+			spare.Over(k.Data, 99)
 		}
-		overwrite(c.Banks, api.Bank{Num: 9, Data: []byte{9}})
+		spare.Over(c.Banks, api.Bank{Num: 9, Data: []byte{9}})
 		// Ahead of a third call, which could put right again what two answers share.
-		if e != fine || !bytes.Equal(other, code) || !alike(second, want) || !reflect.DeepEqual(whole(p), before) {
+		if e != fine || !bytes.Equal(other, code) || !alike(second, want) || !reflect.DeepEqual(spare.Whole(p), before) {
 			t.Fatalf("%v: with one answer written over another is %v, want %v, %d", p, second, want, e)
 		}
 		if third, f := emit.Cart(p); f != fine || !alike(third, want) {
@@ -322,15 +270,15 @@ func TestListsOfOneAnswerAreApart(t *testing.T) { // R3: also where the program'
 	for i := range p.Banks {
 		c, e := emit.Cart(p)
 		want := cloned(c)
-		overwrite(c.Banks[i].Data, 99)
+		spare.Over(c.Banks[i].Data, 99)
 		want.Banks[i].Data = c.Banks[i].Data
 		if e != fine || !alike(c, want) || !bytes.Equal(data, []byte{1, 2, 3, 4, 5, 6}) {
 			t.Errorf("with bank %d written over: %v, %v, %d", i, c, data, e)
 		}
 	}
 	for _, over := range []func(*api.Cart){
-		func(c *api.Cart) { overwrite(c.Code, 99) },
-		func(c *api.Cart) { overwrite(c.Effects, api.Effect{At: 9}) },
+		func(c *api.Cart) { spare.Over(c.Code, 99) },
+		func(c *api.Cart) { spare.Over(c.Effects, api.Effect{At: 9}) },
 	} {
 		c, _ := emit.Cart(p)
 		want := cloned(c)
@@ -343,10 +291,10 @@ func TestListsOfOneAnswerAreApart(t *testing.T) { // R3: also where the program'
 	// What is handed in may be written over likewise.
 	c, _ := emit.Cart(p)
 	want := cloned(c)
-	overwrite(data, 99)
-	overwrite(p.Defs[1].Body, api.Node{})
-	overwrite(p.Defs, api.Def{})
-	overwrite(p.Banks, api.Bank{})
+	spare.Over(data, 99)
+	spare.Over(p.Defs[1].Body, api.Node{})
+	spare.Over(p.Defs, api.Def{})
+	spare.Over(p.Banks, api.Bank{})
 	if !alike(c, want) {
 		t.Errorf("with the program written over: %v, want %v", c, want)
 	}

@@ -10,6 +10,7 @@ import (
 	"testing"
 
 	"wisp/api"
+	"wisp/spare"
 	"wisp/tree"
 )
 
@@ -242,65 +243,12 @@ func TestSameIsAlike(t *testing.T) { // 10.4: of any two
 	}
 }
 
-// roomy is a list with spare room behind it that is filled with x.
-func roomy[T any](list []T, x T) []T {
-	room := make([]T, len(list), len(list)+9)
-	copy(room, list)
-	spare := room[len(list):cap(room)]
-	for i := range spare {
-		spare[i] = x
-	}
-	return room
-}
-
-// writeOver sets all that a list has, spare room too.
-func writeOver[T any](list []T, x T) {
-	all := list[:cap(list)]
-	for i := range all {
-		all[i] = x
-	}
-}
-
-func roomyNodes(list []api.Node) []api.Node {
-	list = roomy(list, api.Node{Kind: 77, Name: "spare"})
-	for i := range list {
-		list[i].Then, list[i].Else = roomyNodes(list[i].Then), roomyNodes(list[i].Else)
-	}
-	return list
-}
-
-// roomyProgram is the same program, each of its lists with spare room.
-func roomyProgram(p api.Program) api.Program {
-	p.Defs = roomy(p.Defs, api.Def{Kind: 77, Name: "spare"})
-	for i := range p.Defs {
-		p.Defs[i].Body = roomyNodes(p.Defs[i].Body)
-	}
-	p.Banks = roomy(p.Banks, api.Bank{Num: 77})
-	for i := range p.Banks {
-		p.Banks[i].Data = roomy(p.Banks[i].Data, 77)
-	}
-	return p
-}
-
 func TestWhatIsHandedInStays(t *testing.T) { // R3: spare room too
-	whole := func(p api.Program) []any {
-		all := []any{p.Defs[:cap(p.Defs)], p.Banks[:cap(p.Banks)]}
-		for _, b := range p.Banks {
-			all = append(all, b.Data[:cap(b.Data)])
-		}
-		for _, d := range p.Defs {
-			all = append(all, d.Body[:cap(d.Body)])
-		}
-		for _, n := range allNodes(p) {
-			all = append(all, n.Then[:cap(n.Then)], n.Else[:cap(n.Else)])
-		}
-		return all
-	}
-	p, want := roomyProgram(rich()), roomyProgram(rich())
+	p, want := spare.Program(rich()), spare.Program(rich())
 	if e := tree.Check(p); e != fine {
 		t.Fatal(e)
 	}
-	if _, e := tree.Print(p); e != fine || !tree.Same(p, want) || !reflect.DeepEqual(whole(p), whole(want)) {
+	if _, e := tree.Print(p); e != fine || !tree.Same(p, want) || !reflect.DeepEqual(spare.Whole(p), spare.Whole(want)) {
 		t.Error("what was handed in has changed")
 	}
 }
@@ -346,13 +294,13 @@ func lists(p api.Program) []list {
 	}
 	var look func(l []api.Node)
 	look = func(l []api.Node) {
-		all = append(all, list{writeOver: func() { writeOver(l, api.Node{Kind: 55, Name: "over"}) }, elements: func() any { return bare(l) }})
+		all = append(all, list{writeOver: func() { spare.Over(l, api.Node{Kind: 55, Name: "over"}) }, elements: func() any { return bare(l) }})
 		for _, n := range l {
 			look(n.Then)
 			look(n.Else)
 		}
 	}
-	all = append(all, list{writeOver: func() { writeOver(p.Defs, api.Def{Kind: 55}) }, elements: func() any {
+	all = append(all, list{writeOver: func() { spare.Over(p.Defs, api.Def{Kind: 55}) }, elements: func() any {
 		var out []api.Def
 		for _, d := range p.Defs {
 			d.Body = nil
@@ -363,7 +311,7 @@ func lists(p api.Program) []list {
 	for _, d := range p.Defs {
 		look(d.Body)
 	}
-	all = append(all, list{writeOver: func() { writeOver(p.Banks, api.Bank{Num: 55}) }, elements: func() any {
+	all = append(all, list{writeOver: func() { spare.Over(p.Banks, api.Bank{Num: 55}) }, elements: func() any {
 		var out []int
 		for _, b := range p.Banks {
 			out = append(out, b.Num)
@@ -371,7 +319,7 @@ func lists(p api.Program) []list {
 		return out
 	}})
 	for _, b := range p.Banks {
-		all = append(all, list{writeOver: func() { writeOver(b.Data, 55) }, elements: func() any { return append([]byte(nil), b.Data...) }})
+		all = append(all, list{writeOver: func() { spare.Over(b.Data, 55) }, elements: func() any { return append([]byte(nil), b.Data...) }})
 	}
 	return all
 }
