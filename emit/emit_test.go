@@ -2,6 +2,7 @@ package emit_test
 
 import (
 	"bytes"
+	"math/rand"
 	"slices"
 	"strconv"
 	"strings"
@@ -11,6 +12,8 @@ import (
 	"wisp/cart"
 	"wisp/emit"
 	"wisp/layout"
+	"wisp/sources"
+	"wisp/tree"
 )
 
 // The errors, kinds and limits by the document's numbers, not by api's names: a slip in one of the two must show.
@@ -107,22 +110,44 @@ func wantCells(t *testing.T, src string, cells ...uint16) {
 	wantBytes(t, src, taken(t, src), want)
 }
 
-// wantWritten holds what a writer has written to the tests' own cells.
-func wantWritten(t *testing.T, w *writer) {
+// taken is the program of a text.
+func taken(t *testing.T, src string) api.Program {
 	t.Helper()
-	wantBytes(t, w.source(), taken(t, w.source()), w.bytes(t))
+	p, at, e := tree.Parse(src)
+	if e != fine {
+		t.Fatalf("the tests' own %.300q: %d at %v", src, e, at)
+	}
+	return p
+}
+
+func makerOf(seed int64) *sources.Maker { return sources.New(rand.New(rand.NewSource(seed))) }
+
+// cellsOf is the code of what a writer has written, by the tests' own cells.
+func cellsOf(t *testing.T, w *sources.Writer) []byte {
+	t.Helper()
+	code, _, is := w.Code()
+	if !is {
+		t.Fatalf("the tests' own %s: what is no cell", w.Source())
+	}
+	return code
+}
+
+// wantWritten holds what a writer has written to the tests' own cells.
+func wantWritten(t *testing.T, w *sources.Writer) {
+	t.Helper()
+	wantBytes(t, w.Source(), taken(t, w.Source()), cellsOf(t, w))
 }
 
 // wantBody holds a body, behind few definitions and behind many, to the tests' own cells.
-func wantBody(t *testing.T, body part) {
+func wantBody(t *testing.T, body sources.Part) {
 	t.Helper()
 	for _, ahead := range []int{0, 3, 70} {
-		var w writer
-		w.word("a")
+		var w sources.Writer
+		w.Word("a")
 		for i := range ahead {
-			w.constant("k"+strconv.Itoa(i), uint16(i))
+			w.Constant("k"+strconv.Itoa(i), uint16(i))
 		}
-		w.word("main", body)
+		w.Word("main", body)
 		wantWritten(t, &w)
 	}
 }
@@ -235,12 +260,12 @@ func TestRowsByHand(t *testing.T) { // 13.2: each row alone, empty and with each
 }
 
 func TestEachPrimitive(t *testing.T) { // 13.2: its thread is twice its number
-	if many := len(strings.Fields(primitives)); many != 55 {
+	if many := len(strings.Fields(sources.Primitives)); many != 55 {
 		t.Fatalf("the tests' own %d names", many)
 	}
 	for op := 9; op < 64; op++ {
-		wantCells(t, ": main "+primitive(op).src+" ;", 1, uint16(2*op), 16)
-		wantBody(t, primitive(op))
+		wantCells(t, ": main "+sources.Primitive(op).Src+" ;", 1, uint16(2*op), 16)
+		wantBody(t, sources.Primitive(op))
 	}
 }
 
@@ -272,23 +297,23 @@ func TestEachKindOfDefinition(t *testing.T) { // 13.1: word, constant, variable,
 }
 
 // leaves are bodies without others in them, empty ones too.
-func leaves() []part {
-	return []part{{}, primitive(nop), number(0x1234), exit, name("a"), behind(number(3), primitive(21), name("a"))}
+func leaves() []sources.Part {
+	return []sources.Part{{}, sources.Primitive(nop), sources.Number(0x1234), sources.Exit(), sources.Name("a"), sources.Behind(sources.Number(3), sources.Primitive(21), sources.Name("a"))}
 }
 
 // fits tells whether a body may stand in a row: no exit stands inside do.
-func (r row) fits(a part) bool {
-	return !strings.HasPrefix(r.src, "do") || !slices.Contains(strings.Fields(a.src), "exit")
+func fits(r sources.Row, a sources.Part) bool {
+	return !strings.HasPrefix(r.Src, "do") || !slices.Contains(strings.Fields(a.Src), "exit")
 }
 
 // arounds are rows around bodies: of those with one body B is not looked at.
-func arounds(bodies []part) []part {
-	var all []part
-	for _, r := range rows {
+func arounds(bodies []sources.Part) []sources.Part {
+	var all []sources.Part
+	for _, r := range sources.Rows() {
 		for i, a := range bodies {
 			for j, b := range bodies {
-				if r.fits(a) && (r.twofold() || i == j) {
-					all = append(all, r.around(a, b))
+				if fits(r, a) && (r.Twofold() || i == j) {
+					all = append(all, r.Around(a, b))
 				}
 			}
 		}
@@ -298,13 +323,13 @@ func arounds(bodies []part) []part {
 
 func TestOneWithinTheOther(t *testing.T) { // 13.2: each row around each leaf, and around each row
 	once := arounds(leaves())
-	var some []part
+	var some []sources.Part
 	for i, p := range once {
 		if i%5 == 0 {
 			some = append(some, p)
 		}
 	}
-	for _, list := range [][]part{leaves(), once, arounds(some)} {
+	for _, list := range [][]sources.Part{leaves(), once, arounds(some)} {
 		for _, body := range list {
 			wantBody(t, body)
 		}
@@ -315,34 +340,35 @@ func TestOneWithinTheOther(t *testing.T) { // 13.2: each row around each leaf, a
 }
 
 func TestOneBehindTheOther(t *testing.T) { // 13.2: each row and each leaf behind each
-	list := append(leaves(), arounds([]part{{}})...)
-	list = append(list, arounds([]part{behind(number(9), primitive(13))})...)
+	list := append(leaves(), arounds([]sources.Part{{}})...)
+	list = append(list, arounds([]sources.Part{sources.Behind(sources.Number(9), sources.Primitive(13))})...)
 	for _, a := range list {
 		for _, b := range list {
-			wantBody(t, behind(a, b))
+			wantBody(t, sources.Behind(a, b))
 		}
 	}
-	wantBody(t, behind(append(list, list[6:]...)...))
+	wantBody(t, sources.Behind(append(list, list[6:]...)...))
 }
 
 func TestGreatestDepth(t *testing.T) { // 13.2: 32 in one another, by each row and by all, in the one body, in the other and in turn
-	for i, r := range append(rows, row{}) {
+	rows := sources.Rows()
+	for i, r := range append(rows, sources.Row{}) {
 		for _, sides := range []func(int) bool{
 			func(int) bool { return true },
 			func(int) bool { return false },
 			func(k int) bool { return k%2 == 0 },
 		} {
-			body := primitive(nop)
+			body := sources.Primitive(nop)
 			for k := range 32 {
 				if i == len(rows) {
 					r = rows[k%len(rows)]
 				}
-				if other := behind(number(uint16(k)), primitive(13)); sides(k) || !r.twofold() {
-					body = r.around(body, other)
+				if other := sources.Behind(sources.Number(uint16(k)), sources.Primitive(13)); sides(k) || !r.Twofold() {
+					body = r.Around(body, other)
 				} else {
-					body = r.around(other, body)
+					body = r.Around(other, body)
 				}
-				body = behind(primitive(12), body, primitive(13))
+				body = sources.Behind(sources.Primitive(12), body, sources.Primitive(13))
 			}
 			wantBody(t, body)
 		}
@@ -350,18 +376,18 @@ func TestGreatestDepth(t *testing.T) { // 13.2: 32 in one another, by each row a
 }
 
 func TestLongBodies(t *testing.T) { // 13.2: branches as wide as there is room: the code ends at 16384
-	for _, r := range rows {
-		own := len(strings.Fields(r.around(part{}, part{}).cells)) - strings.Count(r.cells, ":")
-		long := part{strings.Repeat("nop ", 8126-own), strings.Repeat("18 ", 8126-own)}
-		for _, body := range []part{r.around(long, part{}), r.around(part{}, long)} {
-			if !r.twofold() && !strings.Contains(body.src, "nop") {
+	for _, r := range sources.Rows() {
+		own := len(strings.Fields(r.Around(sources.Part{}, sources.Part{}).Cells)) - strings.Count(r.Cells, ":")
+		long := sources.Part{Src: strings.Repeat("nop ", 8126-own), Cells: strings.Repeat("18 ", 8126-own)}
+		for _, body := range []sources.Part{r.Around(long, sources.Part{}), r.Around(sources.Part{}, long)} {
+			if !r.Twofold() && !strings.Contains(body.Src, "nop") {
 				continue
 			}
-			var w writer
-			w.word("main", body)
+			var w sources.Writer
+			w.Word("main", body)
 			wantWritten(t, &w)
-			if b, _ := emit.Code(taken(t, w.source())); len(b) != 16384 {
-				t.Errorf("%s: %d bytes", r.src, len(b))
+			if b, _ := emit.Code(taken(t, w.Source())); len(b) != 16384 {
+				t.Errorf("%s: %d bytes", r.Src, len(b))
 			}
 		}
 	}

@@ -32,19 +32,13 @@ func cloned(c api.Cart) api.Cart {
 	return c
 }
 
-// some writes a program, and tells its text, with banks.
-func (m *maker) some() string {
-	m.program(1 + m.Intn(14))
-	return m.source() + m.banks()
-}
-
 func TestAnyProgram(t *testing.T) { // 13.1 to 13.4: cell by cell, and effect by effect
 	m := makerOf(1301)
 	with, without, never := 0, 0, 0
 	for range 1500 {
-		src := m.some()
+		src := m.Some()
 		p := taken(t, src)
-		wantBytes(t, src, p, m.bytes(t))
+		wantBytes(t, src, p, cellsOf(t, &m.Writer))
 		shapes, e := effect.Shapes(p)
 		places, _, _, _, f := layout.Of(p)
 		if e != fine || f != fine {
@@ -102,7 +96,7 @@ func emptied(list []api.Node) []api.Node {
 func TestSameProgramsHaveTheSameCartridge(t *testing.T) { // 13.4, R4: other places, another layout of the text, lists without elements
 	m := makerOf(1304)
 	for range 400 {
-		src := m.some()
+		src := m.Some()
 		p, moved := taken(t, src), taken(t, src)
 		spread := taken(t, " ( a remark )\n"+strings.ReplaceAll(src, " ", "\n  ")+"\n")
 		for i := range moved.Defs {
@@ -136,7 +130,7 @@ func TestFirstDefinitions(t *testing.T) { // 13.5: for each number of them that 
 	m := makerOf(1305)
 	shorter := 0
 	for range 400 {
-		src := m.some()
+		src := m.Some()
 		p := taken(t, src)
 		whole, e := emit.Code(p)
 		c, f := emit.Cart(p)
@@ -215,7 +209,7 @@ func TestBanksAreThoseOfTheMachine(t *testing.T) { // 13.3
 func TestWhatIsHandedInStays(t *testing.T) { // R3, R5: spare room too; what lies there does not matter
 	m := makerOf(1306)
 	for i := range 300 {
-		src := m.some()
+		src := m.Some()
 		p, plain := spare.Program(taken(t, src)), taken(t, src)
 		if i%10 == 0 { // one that has an error
 			p.Defs[0].Name, plain.Defs[0].Name = "if", "if"
@@ -237,7 +231,7 @@ func TestWhatIsHandedInStays(t *testing.T) { // R3, R5: spare room too; what lie
 func TestWhatIsHandedOutIsApart(t *testing.T) { // R3, R5: it may be written over, its room too, the banks too
 	m := makerOf(1307)
 	for range 200 {
-		p := spare.Program(taken(t, m.some()))
+		p := spare.Program(taken(t, m.Some()))
 		p.Banks = spare.Program(api.Program{Banks: []api.Bank{{Num: 2, Data: []byte{1, 2}}, {Num: 4}, {Num: 5, Data: []byte{3}}}}).Banks
 		before := spare.Whole(p)
 		b, _ := emit.Code(p)

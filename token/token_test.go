@@ -11,6 +11,7 @@ import (
 	"testing"
 
 	"wisp/api"
+	"wisp/sources"
 	"wisp/token"
 )
 
@@ -625,24 +626,6 @@ func TestAnyTexts(t *testing.T) { // P9.1 to P9.3, P9.5
 	}
 }
 
-// anyGap is blanks and comments that hold two words apart.
-func anyGap(r *rand.Rand) string {
-	blanks := []string{" ", "\n", "\t", "\r", "\r\n", "   "}
-	blank := func() string { return blanks[r.Intn(len(blanks))] }
-	s := blank()
-	for range r.Intn(4) {
-		switch r.Intn(3) {
-		case 0:
-			s += blank()
-		case 1:
-			s += "(" + blank() + "any \\ ( thing\n\x00\xff 70000" + ")"
-		default:
-			s += "\\" + []string{" ", "\t", "\x00"}[r.Intn(3)] + "any ( thing ) \xc3\xa9\n"
-		}
-	}
-	return s
-}
-
 // anyWords is words that a text may have.
 func anyWords(r *rand.Rand) []string {
 	some := []string{"a", "dup", ":", ";", "7", "-1", "$ff", "'('", `'\'`, "(a", "a(", `\b`, `b\`, ")", "((", `\\`, "2dup", strings.Repeat("w", 31), "0", "%101"}
@@ -658,13 +641,9 @@ func TestWordsPutTogether(t *testing.T) { // P9.4
 	for range 5000 {
 		words := anyWords(r)
 		wantWords(t, strings.Join(words, " "), words...)
-		var b strings.Builder
-		for _, w := range words {
-			b.WriteString(anyGap(r) + w)
-		}
-		b.WriteString(anyGap(r))
-		wantWords(t, b.String(), words...)
-		first, _, _ := token.Scan(b.String())
+		src := sources.Dressed(r, words...)
+		wantWords(t, src, words...)
+		first, _, _ := token.Scan(src)
 		again, _, _ := token.Scan(strings.Join(texts(first), " "))
 		for i := range again {
 			if again[i].Kind != first[i].Kind || again[i].Value != first[i].Value {

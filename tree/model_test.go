@@ -9,6 +9,7 @@ import (
 	"testing"
 
 	"wisp/api"
+	"wisp/sources"
 	"wisp/tree"
 )
 
@@ -415,19 +416,8 @@ func TestAnySource(t *testing.T) { // 10.1, 10.2, 10.3, 10.5: well formed ones, 
 			t.Fatalf("the tests' own %s: %d", brief(src), e)
 		}
 		for range 1 + m.Intn(2) {
-			i := m.Intn(len(m.words))
 			with := m.one(ownWords + " " + ownWords + " dup bank main nobody 1 255 256 16384 16385 65535")
-			switch m.Intn(3) {
-			case 0:
-				m.words[i] = with
-			case 1:
-				m.words = slices.Insert(m.words, i, with)
-			default:
-				m.words = slices.Delete(m.words, i, i+1)
-			}
-			if len(m.words) == 0 {
-				break
-			}
+			m.words = sources.Changed(m, with, m.words...)
 		}
 		met[wantModelled(t, m.joined())]++
 	}
@@ -477,7 +467,6 @@ func TestTheFirstFault(t *testing.T) { // 10.6: what comes behind the token that
 
 func TestBlanksAndRemarks(t *testing.T) { // 10.7: they change nothing but places
 	m := &maker{Rand: rand.New(rand.NewSource(107))}
-	gaps := []string{" ", "\n", "\t", "\r", "\r\n", " ( a remark ) ", "\n( \n\n)", " \\ ; : x\n", "\t( : ; \x00\xff )", " \\\n", "\n\\ \x00 (\n"}
 	for range 2000 {
 		m.source(1 + m.Intn(6))
 		if m.Intn(3) == 0 {
@@ -487,11 +476,11 @@ func TestBlanksAndRemarks(t *testing.T) { // 10.7: they change nothing but place
 		p, place, e := tree.Parse(plain)
 		var b strings.Builder
 		var begins []api.Pos
-		b.WriteString(gaps[m.Intn(len(gaps))])
+		b.WriteString(sources.Gap(m))
 		for _, w := range m.words {
 			begins = append(begins, endOf(b.String()))
 			b.WriteString(w)
-			b.WriteString(gaps[m.Intn(len(gaps))])
+			b.WriteString(sources.Gap(m))
 		}
 		q, other, f := tree.Parse(b.String())
 		if f != e || !tree.Same(p, q) || !alike(p, q) {

@@ -1,0 +1,90 @@
+package sources_test
+
+import (
+	"math/rand"
+	"slices"
+	"strings"
+	"testing"
+
+	"wisp/sources"
+	"wisp/token"
+	"wisp/tree"
+)
+
+// cells are those of a writer's code behind the first 64.
+func cells(t *testing.T, w *sources.Writer) []int {
+	t.Helper()
+	code, _, is := w.Code()
+	if !is || len(code) < 128 || len(code)%2 != 0 {
+		t.Fatalf("%s: %v, %t", w.Source(), code, is)
+	}
+	var all []int
+	for i := 128; i < len(code); i += 2 {
+		all = append(all, int(code[i])+256*int(code[i+1]))
+	}
+	return all
+}
+
+func TestCellsByHand(t *testing.T) {
+	var w sources.Writer
+	w.Constant("seven", 7)
+	w.Variable("v")
+	w.Buffer("b", 300)
+	w.Variable("u")
+	nop, a := sources.Primitive(9), sources.Rows()[1].Around(sources.Number(1), sources.Number(2))
+	w.Word("main", sources.Name("seven"), a, nop, a, sources.Exit())
+	const src = "7 constant seven variable v 300 buffer b variable u : main seven if 1 else 2 then nop if 1 else 2 then exit ;"
+	if got := strings.Join(strings.Fields(w.Source()), " "); got != src {
+		t.Errorf("%s, want %s", got, src)
+	}
+	want := []int{2, 7, 2, 0x8000, 2, 0x8002, 2, 0x812e, 1, 128, 10, 160, 6, 1, 8, 164, 6, 2, 18, 10, 178, 6, 1, 8, 182, 6, 2, 16, 16}
+	if got := cells(t, &w); !slices.Equal(got, want) {
+		t.Errorf("%v, want %v", got, want)
+	}
+	if _, at, _ := w.Code(); at["seven"] != 128 || at["main"] != 144 {
+		t.Errorf("%v", at)
+	}
+	w.Word("x", sources.Name("nobody"))
+	if _, _, is := w.Code(); is {
+		t.Error("a name that is not known has cells")
+	}
+}
+
+func TestProgramsAreWellFormed(t *testing.T) {
+	m := sources.New(rand.New(rand.NewSource(1)))
+	for range 300 {
+		src := m.Some()
+		if _, at, e := tree.Parse(src); e != 0 {
+			t.Fatalf("%s: %d at %v", src, e, at)
+		}
+		cells(t, &m.Writer)
+	}
+}
+
+func TestWords(t *testing.T) {
+	r := rand.New(rand.NewSource(2))
+	words := strings.Fields(": main 7 drop ;")
+	lengths := map[int]int{}
+	for range 500 {
+		src := sources.Dressed(r, words...)
+		tokens, _, e := token.Scan(src)
+		var got []string
+		for _, x := range tokens {
+			got = append(got, x.Text)
+		}
+		if e != 0 || !slices.Equal(got, words) {
+			t.Fatalf("%q: %v, %d", src, got, e)
+		}
+		changed := sources.Changed(r, "x", words...)
+		if slices.Equal(changed, words) || strings.Join(words, " ") != ": main 7 drop ;" {
+			t.Fatalf("%v with one changed: %v", words, changed)
+		}
+		lengths[len(changed)]++
+	}
+	if lengths[4] == 0 || lengths[5] == 0 || lengths[6] == 0 {
+		t.Errorf("%v", lengths)
+	}
+	if got := sources.Changed(r, "x"); !slices.Equal(got, []string{"x"}) {
+		t.Errorf("of no words: %v", got)
+	}
+}
