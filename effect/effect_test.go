@@ -7,6 +7,7 @@ import (
 
 	"wisp/api"
 	"wisp/effect"
+	"wisp/sources"
 	"wisp/tree"
 )
 
@@ -202,11 +203,8 @@ func TestExample7(t *testing.T) { // 11.5
 	wantTypable(t, ": bad drop ; : main begin yield again ;")
 }
 
-// effects are the primitives' names with the cells that each takes and leaves, by DOC.md's table; those that look at the return stack are not here.
-const effects = "nop 0 0 yield 0 0 dup 1 2 drop 1 0 swap 2 2 over 2 3 rot 3 3 nip 2 1 tuck 2 3 2dup 2 4 2drop 2 0 + 2 1 - 2 1 * 2 1 / 2 1 mod 2 1 u/ 2 1 umod 2 1 negate 1 1 abs 1 1 min 2 1 max 2 1 1+ 1 1 1- 1 1 2* 1 1 2/ 1 1 and 2 1 or 2 1 xor 2 1 invert 1 1 lshift 2 1 rshift 2 1 = 2 1 <> 2 1 < 2 1 > 2 1 u< 2 1 u> 2 1 0= 1 1 0< 1 1 @ 1 1 ! 2 0 c@ 1 1 c! 2 0 +! 2 0 plot 3 0 pad 0 1 tone 2 0 bank 1 0"
-
 func TestEveryPrimitive(t *testing.T) { // 11.1, 11.2: its In and Out, from every height
-	list := strings.Fields(effects)
+	list := strings.Fields(sources.Effects)
 	if len(list) != 3*(55-6) {
 		t.Fatalf("the tests' own table has %d words", len(list))
 	}
@@ -362,7 +360,7 @@ func TestOut(t *testing.T) { // 11.3: In and the height more; 256, and one more
 }
 
 func TestInAtItsLimit(t *testing.T) { // 11.1: 256, and one more, at each kind of node
-	list := strings.Fields(effects)
+	list := strings.Fields(sources.Effects)
 	for i := 0; i < len(list); i += 3 {
 		in, out := int(list[i+1][0]-'0'), int(list[i+2][0]-'0')
 		if in > 0 {

@@ -11,6 +11,7 @@ import (
 	"wisp/api"
 	"wisp/effect"
 	"wisp/spare"
+	"wisp/trees"
 	"wisp/vm"
 )
 
@@ -222,15 +223,6 @@ func shapeOf(t *testing.T, p api.Program, name string) api.Shape {
 	return l[i].Shape
 }
 
-// eachNode goes through the nodes of bodies, those inside others too.
-func eachNode(list []api.Node, do func(*api.Node)) {
-	for i := range list {
-		do(&list[i])
-		eachNode(list[i].Then, do)
-		eachNode(list[i].Else, do)
-	}
-}
-
 // placeless is a list of shapes by name, without places.
 func placeless(l []effect.Typed) map[string]effect.Typed {
 	by := map[string]effect.Typed{}
@@ -269,7 +261,7 @@ func TestNamesAndNumbersDoNotMatter(t *testing.T) { // 11.7: nor places, nor wha
 			if d.Kind != 1 {
 				d.Kind, d.Value = 2+m.Intn(2), uint16(m.Intn(16385))
 			}
-			eachNode(d.Body, func(n *api.Node) {
+			trees.Each(d.Body, func(n *api.Node) {
 				n.Pos = pos(m.Intn(9), m.Intn(9))
 				n.Name = fresh[n.Name]
 				if n.Kind == 2 {
@@ -304,7 +296,7 @@ func TestNamesAndNumbersDoNotMatter(t *testing.T) { // 11.7: nor places, nor wha
 // namedIn tells whether a body has a name in it.
 func namedIn(body []api.Node, name string) bool {
 	is := false
-	eachNode(body, func(n *api.Node) { is = is || n.Name == name })
+	trees.Each(body, func(n *api.Node) { is = is || n.Name == name })
 	return is
 }
 
@@ -478,7 +470,7 @@ func TestEmptyListsAreOne(t *testing.T) { // R4
 	p := taken(t, ": a if then begin until ; : b do loop ; : main begin 1 while repeat ; 3 bank { }")
 	q := taken(t, ": a if then begin until ; : b do loop ; : main begin 1 while repeat ; 3 bank { }")
 	for i := range q.Defs {
-		eachNode(q.Defs[i].Body, func(n *api.Node) {
+		trees.Each(q.Defs[i].Body, func(n *api.Node) {
 			if n.Then == nil {
 				n.Then = []api.Node{}
 			} else if len(n.Then) == 0 {

@@ -11,12 +11,13 @@ import (
 
 	"wisp/api"
 	"wisp/effect"
+	"wisp/sources"
 	"wisp/tree"
 )
 
 // model says 11.1 to 11.3 once more: not over the tree, but word by word through the text, as a compiler of one pass goes, with the structures that are open on a stack. Its texts have no comments and no banks.
 type model struct {
-	plain map[string][2]int // the primitives of the table effects
+	plain map[string][2]int // the primitives of the table sources.Effects
 	kinds map[string]string // what each name was defined by
 	told  []effect.Typed
 	named map[string]effect.Typed
@@ -48,7 +49,7 @@ type structure struct {
 
 func newModel() *model {
 	m := &model{plain: map[string][2]int{}, kinds: map[string]string{}, named: map[string]effect.Typed{}}
-	list := strings.Fields(effects)
+	list := strings.Fields(sources.Effects)
 	for i := 0; i < len(list); i += 3 {
 		m.plain[list[i]] = [2]int{int(list[i+1][0] - '0'), int(list[i+2][0] - '0')}
 	}
@@ -505,7 +506,7 @@ func (m *maker) node(size, deep, base int, inDo bool) {
 }
 
 func (m *maker) primitive() {
-	list := strings.Fields(effects)
+	list := strings.Fields(sources.Effects)
 	i := 3 * m.Intn(len(list)/3)
 	m.put(list[i])
 	m.height += int(list[i+2][0]) - int(list[i+1][0])

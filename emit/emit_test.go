@@ -14,34 +14,19 @@ import (
 	"wisp/layout"
 	"wisp/sources"
 	"wisp/tree"
+	"wisp/trees"
 )
 
 // The errors, kinds and limits by the document's numbers, not by api's names: a slip in one of the two must show.
 const (
 	fine      = api.Errno(0)
-	badTop    = api.Errno(100)
-	badName   = api.Errno(101)
-	badTwice  = api.Errno(102)
-	badWord   = api.Errno(103)
-	badValue  = api.Errno(106)
 	badMain   = api.Errno(107)
-	badLeave  = api.Errno(108)
 	badDeep   = api.Errno(109)
 	tooMany   = api.Errno(110)
 	tooLong   = api.Errno(111)
-	tooGreat  = api.Errno(112)
-	defWord   = 1
-	defConst  = 2
-	defVar    = 3
-	nodePrim  = 1
-	nodeLit   = 2
-	nodeCall  = 3
-	nodeIf    = 4
 	nodeUntil = 5
-	nodeWhile = 6
 	nodeAgain = 7
 	nodeDo    = 8
-	nodeExit  = 9
 	nop       = 9
 )
 
@@ -205,7 +190,7 @@ func TestExample4(t *testing.T) { // 13.3
 
 func TestExample5(t *testing.T) { // 13.1, 13.3
 	wantError(t, "no main", badMain, api.Program{})
-	wantError(t, "513 definitions", tooMany, program(append(constants(512), word("main"))...))
+	wantError(t, "513 definitions", tooMany, trees.Program(append(trees.Constants(512), trees.Word("main"))...))
 }
 
 func TestFirstCells(t *testing.T) { // 13.1: cell k holds k, whatever comes behind
@@ -437,7 +422,7 @@ func TestMostEffects(t *testing.T) { // 13.3: of 512 words
 	var defs []api.Def
 	var want []api.Effect
 	for i := range 512 {
-		defs = append(defs, word("w"+strconv.Itoa(i), prims(i%20, 12)...))
+		defs = append(defs, trees.Word("w"+strconv.Itoa(i), trees.Prims(i%20, 12)...))
 		in := min(i%20, 1)
 		at := uint16(128)
 		if i > 0 {
@@ -446,11 +431,11 @@ func TestMostEffects(t *testing.T) { // 13.3: of 512 words
 		want = append(want, api.Effect{At: at, In: in, Out: in + i%20})
 	}
 	defs[300].Name = "main"
-	c, e := emit.Cart(program(defs...))
+	c, e := emit.Cart(trees.Program(defs...))
 	if e != fine || !slices.Equal(c.Effects, want) || c.Entry != want[300].At {
 		t.Errorf("%d, Entry %d, %d effects", e, c.Entry, len(c.Effects))
 	}
-	wantHeld(t, "512 words", program(defs...), c)
+	wantHeld(t, "512 words", trees.Program(defs...), c)
 }
 
 func TestBanks(t *testing.T) { // 13.3: the program's, none, empty and full
@@ -462,7 +447,7 @@ func TestBanks(t *testing.T) { // 13.3: the program's, none, empty and full
 		}
 		wantHeld(t, src, p, c)
 	}
-	full := program(word("main"))
+	full := trees.Program(trees.Word("main"))
 	for num := range 16 {
 		data := make([]byte, 16384)
 		for i := range data {
@@ -477,7 +462,7 @@ func TestBanks(t *testing.T) { // 13.3: the program's, none, empty and full
 	wantHeld(t, "full banks", full, c)
 	// Banks change nothing else.
 	b, _ := emit.Code(full)
-	bare, _ := emit.Cart(program(word("main")))
+	bare, _ := emit.Cart(trees.Program(trees.Word("main")))
 	if !bytes.Equal(b, bare.Code) || c.Entry != bare.Entry || !slices.Equal(c.Effects, bare.Effects) || len(bare.Banks) != 0 {
 		t.Errorf("%v without banks, Entry %d, Effects %v with them", bare, c.Entry, c.Effects)
 	}

@@ -14,6 +14,7 @@ import (
 	"wisp/layout"
 	"wisp/spare"
 	"wisp/tree"
+	"wisp/trees"
 	"wisp/vm"
 )
 
@@ -74,15 +75,6 @@ func TestAnyProgram(t *testing.T) { // 13.1 to 13.4: cell by cell, and effect by
 	}
 }
 
-// eachNode goes through the nodes of bodies, those inside others too.
-func eachNode(list []api.Node, do func(*api.Node)) {
-	for i := range list {
-		do(&list[i])
-		eachNode(list[i].Then, do)
-		eachNode(list[i].Else, do)
-	}
-}
-
 func emptied(list []api.Node) []api.Node {
 	if len(list) > 0 {
 		return list
@@ -103,7 +95,7 @@ func TestSameProgramsHaveTheSameCartridge(t *testing.T) { // 13.4, R4: other pla
 			d := &moved.Defs[i]
 			d.Pos = api.Pos{Line: m.Intn(9), Col: -m.Intn(9)}
 			d.Body = emptied(d.Body)
-			eachNode(d.Body, func(n *api.Node) {
+			trees.Each(d.Body, func(n *api.Node) {
 				n.Pos = api.Pos{Line: m.Intn(9)}
 				n.Then, n.Else = emptied(n.Then), emptied(n.Else)
 			})
@@ -295,12 +287,12 @@ func TestListsOfOneAnswerAreApart(t *testing.T) { // R3: also where the program'
 }
 
 func TestLargePrograms(t *testing.T) { // R1: every call ends, in a time that the size bears
-	wantError(t, "a long body", tooLong, program(word("main", prims(400000, nop)...)))
-	wantError(t, "many definitions", tooMany, program(append(constants(20000), word("main"))...))
-	wantError(t, "very deep", badDeep, program(word("main", within(1<<16, nodeDo)...)))
-	nest := prims(1, nop)
+	wantError(t, "a long body", tooLong, trees.Program(trees.Word("main", trees.Prims(400000, nop)...)))
+	wantError(t, "many definitions", tooMany, trees.Program(append(trees.Constants(20000), trees.Word("main"))...))
+	wantError(t, "very deep", badDeep, trees.Program(trees.Word("main", trees.Within(1<<16, nodeDo)...)))
+	nest := trees.Prims(1, nop)
 	for range 12 { // each one twice in the next one: 4096 of the innermost
 		nest = []api.Node{{Kind: nodeAgain, Then: nest}, {Kind: nodeUntil, Then: nest}}
 	}
-	wantError(t, "wide and deep", tooLong, program(word("main", nest...)))
+	wantError(t, "wide and deep", tooLong, trees.Program(trees.Word("main", nest...)))
 }

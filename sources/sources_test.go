@@ -6,9 +6,12 @@ import (
 	"strings"
 	"testing"
 
+	"wisp/effect"
+	"wisp/emit"
 	"wisp/sources"
 	"wisp/token"
 	"wisp/tree"
+	"wisp/vm"
 )
 
 // cells are those of a writer's code behind the first 64.
@@ -58,6 +61,41 @@ func TestProgramsAreWellFormed(t *testing.T) {
 			t.Fatalf("%s: %d at %v", src, e, at)
 		}
 		cells(t, &m.Writer)
+	}
+}
+
+func TestLivelyPrograms(t *testing.T) {
+	r := rand.New(rand.NewSource(3))
+	l := sources.NewLively(r)
+	long := 0
+	for range 400 {
+		src := l.Program(r.Intn(9))
+		if src != strings.Join(l.Words, " ") {
+			t.Fatalf("%s: its words are %v", src, l.Words)
+		}
+		p, at, e := tree.Parse(src)
+		if e != 0 {
+			t.Fatalf("%s: %d at %v", src, e, at)
+		}
+		if e, at := effect.Typable(p); e != 0 {
+			t.Fatalf("%s: %d at %v", src, e, at)
+		}
+		c, e := emit.Cart(p)
+		if e != 0 {
+			t.Fatalf("%s: %d", src, e)
+		}
+		m, _ := vm.New(c)
+		for range 20 {
+			if o, _ := m.Frame(uint8(r.Intn(256)), 500); o.Status == 3 {
+				t.Fatalf("%s: %d", src, o.Fault)
+			}
+		}
+		if m.State().Status == 1 {
+			long++
+		}
+	}
+	if long < 250 {
+		t.Errorf("only %d of 400 go on", long)
 	}
 }
 
