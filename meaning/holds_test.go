@@ -10,12 +10,15 @@ import (
 	"testing"
 
 	"wisp/api"
+	"wisp/cart"
+	"wisp/comp"
 	"wisp/emit"
 	"wisp/meaning"
 	"wisp/sources"
 	"wisp/spare"
 	"wisp/tree"
 	"wisp/trees"
+	"wisp/vm"
 )
 
 // slips are words that make a program fault, or go another way, where they are put in.
@@ -112,6 +115,31 @@ func TestMeantIsCoded(t *testing.T) { // 15.6, 15.7, and 15.1 with 15.5: any pro
 	for op := 1; op < 64; op++ {
 		if l.next[op] == 0 {
 			t.Errorf("the primitive %d has never come next", op)
+		}
+	}
+}
+
+func TestImagesAreMeant(t *testing.T) { // W3: of a source that is compiled, the frames of its image; of any other New has the same error
+	r := rand.New(rand.NewSource(153))
+	for range 100 {
+		src := anySource(r)
+		image, _, e := comp.Compile(src)
+		c, f := cart.Decode(image)
+		if e != fine || f != fine {
+			t.Fatalf("the tests' own %s: %d, %d", src, e, f)
+		}
+		x := pairOf(t, src, taken(t, src))
+		x.coded, _ = vm.New(c)
+		for range 10 {
+			x.frame(t, uint8(r.Intn(256)), anyBudget(r))
+		}
+	}
+	for _, src := range []string{
+		"16384 buffer a variable b : main ;", ": main " + times(8127, "nop") + ";", "variable b 16383 buffer a : main " + times(9000, "nop") + ";", ": main " + times(4064, "1") + ";",
+	} {
+		_, _, want := comp.Compile(src)
+		if m, e := meaning.New(taken(t, src)); m != nil || e != want || want == fine {
+			t.Errorf("%.100s: %t, %d; Compile says %d", src, m != nil, e, want)
 		}
 	}
 }
