@@ -1,4 +1,4 @@
-// Package spare is for tests alone: lists and programs with room behind them, so that it shows when a call writes there or looks there (DOC.md, R3).
+// Package spare is for tests alone: lists, programs and cartridges with room behind them, so that it shows when a call writes there or looks there (DOC.md, R3).
 package spare
 
 import (
@@ -27,10 +27,7 @@ func Program(p api.Program) api.Program {
 	for i := range p.Defs {
 		p.Defs[i].Body = nodes(p.Defs[i].Body)
 	}
-	p.Banks = Given(p.Banks, api.Bank{Num: 77})
-	for i := range p.Banks {
-		p.Banks[i].Data = Given(p.Banks[i].Data, 77)
-	}
+	p.Banks = banks(p.Banks)
 	return p
 }
 
@@ -44,12 +41,9 @@ func nodes(list []api.Node) []api.Node {
 
 // Whole is a copy of a program in which the room of its lists stands as if it were in them.
 func Whole(p api.Program) api.Program {
-	p.Defs, p.Banks = slices.Clone(p.Defs[:cap(p.Defs)]), slices.Clone(p.Banks[:cap(p.Banks)])
+	p.Defs, p.Banks = slices.Clone(p.Defs[:cap(p.Defs)]), wholeBanks(p.Banks)
 	for i := range p.Defs {
 		p.Defs[i].Body = wholeNodes(p.Defs[i].Body)
-	}
-	for i := range p.Banks {
-		p.Banks[i].Data = slices.Clone(p.Banks[i].Data[:cap(p.Banks[i].Data)])
 	}
 	return p
 }

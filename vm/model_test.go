@@ -7,6 +7,7 @@ import (
 	"testing"
 
 	"wisp/api"
+	"wisp/carts"
 	"wisp/mem"
 	"wisp/prim"
 	"wisp/stack"
@@ -55,26 +56,11 @@ var costs = [64]int{0,
 }
 
 // coded tells cells as bytes.
-func coded(cells ...uint16) []byte {
-	var b []byte
-	for _, x := range cells {
-		b = append(b, byte(x%256), byte(x/256))
-	}
-	return b
-}
-
-// table is what the examples' code begins with: 64 cells, cell k holds k.
-func table() []uint16 {
-	cells := make([]uint16, 64)
-	for k := range cells {
-		cells[k] = uint16(k)
-	}
-	return cells
-}
+func coded(cells ...uint16) []byte { return carts.Code(cells...) }
 
 // carted is the cartridge of the examples: behind the table, at 128, main: its code field, then these cells.
 func carted(cells ...uint16) api.Cart {
-	return api.Cart{Code: coded(append(append(table(), 1), cells...)...), Entry: 128}
+	return carts.Of(128, append([]uint16{1}, cells...)...)
 }
 
 func made(t *testing.T, c api.Cart) *vm.Machine {

@@ -7,6 +7,7 @@ import (
 	"testing"
 
 	"wisp/api"
+	"wisp/carts"
 	"wisp/mem"
 	"wisp/prim"
 	"wisp/vm"
@@ -32,60 +33,8 @@ func TestNewAtAnyEntry(t *testing.T) { // 8.1: addresses go on behind 65535 at 0
 	}
 }
 
-// effects is a list of so many, rising.
-func effects(many int) []api.Effect {
-	l := make([]api.Effect, many)
-	for i := range l {
-		l[i] = api.Effect{At: uint16(2 * i), In: i % 257, Out: 256 - i%257}
-	}
-	return l
-}
-
-func banks(numbers ...int) []api.Bank {
-	var l []api.Bank
-	for _, n := range numbers {
-		l = append(l, api.Bank{Num: n, Data: []byte{byte(n), 1}})
-	}
-	return l
-}
-
-// goodCarts just meet the limits of chapter 7.
-var goodCarts = map[string]api.Cart{
-	"nothing":             {},
-	"16384 bytes":         {Code: make([]byte, 16384)},
-	"one cell":            {Code: make([]byte, 2)},
-	"the last entry":      {Entry: 65535},
-	"8192 effects":        {Effects: effects(8192)},
-	"effects of 256":      {Effects: []api.Effect{{At: 65535, In: 256, Out: 256}}},
-	"all banks":           {Banks: banks(0, 1, 2, 3, 4, 5, 6, 7, 8, 9, 10, 11, 12, 13, 14, 15)},
-	"a bank of 16384":     {Banks: []api.Bank{{Num: 15, Data: make([]byte, 16384)}}},
-	"an empty bank":       {Banks: []api.Bank{{Num: 0}}},
-	"lists without cells": {Code: []byte{}, Effects: []api.Effect{}, Banks: []api.Bank{}},
-}
-
-// badCarts pass one of them, by one where it is a number.
-var badCarts = map[string]api.Cart{
-	"one byte":          {Code: make([]byte, 1)},
-	"three bytes":       {Code: make([]byte, 3)},
-	"16385 bytes":       {Code: make([]byte, 16385)},
-	"16386 bytes":       {Code: make([]byte, 16386)},
-	"8193 effects":      {Effects: effects(8193)},
-	"takes 257":         {Effects: []api.Effect{{In: 257}}},
-	"leaves 257":        {Effects: []api.Effect{{Out: 257}}},
-	"takes -1":          {Effects: []api.Effect{{In: -1}}},
-	"leaves -1":         {Effects: []api.Effect{{Out: -1}}},
-	"equal effects":     {Effects: []api.Effect{{At: 4}, {At: 4}}},
-	"falling effects":   {Effects: []api.Effect{{At: 4}, {At: 2}}},
-	"bank 16":           {Banks: banks(16)},
-	"bank -1":           {Banks: banks(-1)},
-	"equal banks":       {Banks: banks(3, 3)},
-	"falling banks":     {Banks: banks(3, 2)},
-	"a bank of 16385":   {Banks: []api.Bank{{Num: 15, Data: make([]byte, 16385)}}},
-	"all that is wrong": {Code: make([]byte, 16387), Effects: []api.Effect{{In: -1}}, Banks: banks(99)},
-}
-
 func TestNewOfCartsThatMayBe(t *testing.T) { // 8.1: each limit just met; R4
-	for what, c := range goodCarts {
+	for what, c := range carts.JustTaken() {
 		m, e := vm.New(c)
 		if m == nil || e != fine {
 			t.Errorf("New with %s = %v, %d", what, m != nil, e)
@@ -96,7 +45,7 @@ func TestNewOfCartsThatMayBe(t *testing.T) { // 8.1: each limit just met; R4
 }
 
 func TestNewOfCartsThatMayNotBe(t *testing.T) { // 8.1, R2
-	for what, c := range badCarts {
+	for what, c := range carts.Refused() {
 		if m, e := vm.New(c); m != nil || e != badCart {
 			t.Errorf("New with %s = %v, %d", what, m != nil, e)
 		}
@@ -518,7 +467,7 @@ func refuses(t *testing.T, what string, c api.Cart, s vm.State, x mem.Image, wan
 }
 
 func TestRestoreOfWhatMayNotBe(t *testing.T) { // 8.6, R2: each reason alone
-	for what, c := range badCarts {
+	for what, c := range carts.Refused() {
 		refuses(t, what, c, goodState(), goodImage(), badCart)
 	}
 	for what, spoil := range badStates {
@@ -537,7 +486,7 @@ func TestRestoreOfWhatMayNotBe(t *testing.T) { // 8.6, R2: each reason alone
 }
 
 func TestRestoreTellsTheFirstError(t *testing.T) { // 8.6, R2: the cartridge comes first; two reasons are still one error
-	for what, c := range badCarts {
+	for what, c := range carts.Refused() {
 		for other, spoil := range badStates {
 			s := goodState()
 			spoil(&s)
@@ -579,7 +528,7 @@ func TestRestoreOfEdges(t *testing.T) { // 8.6, R4: what is just good
 	for _, s := range states {
 		sameState(t, restored(t, goodCart(), s, goodImage()).State(), s, "Restore")
 	}
-	for what, c := range goodCarts {
+	for what, c := range carts.JustTaken() {
 		x := made(t, c).Memory().Image()
 		m := restored(t, c, vm.State{Status: running}, x)
 		if !reflect.DeepEqual(m.Memory().Image(), x) {
