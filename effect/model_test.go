@@ -347,48 +347,6 @@ func modelledTypable(src string, told []effect.Typed) (api.Errno, api.Pos) {
 	return fine, api.Pos{}
 }
 
-// bodies gives every body of so many words; then, until, repeat, again and loop are not counted.
-func bodies(leaves []string, many int, inDo bool) []string {
-	if many == 0 {
-		return []string{""}
-	}
-	var list []string
-	for first := 1; first <= many; first++ {
-		rest := bodies(leaves, many-first, inDo)
-		for _, n := range nodesOf(leaves, first, inDo) {
-			for _, r := range rest {
-				list = append(list, strings.TrimSpace(n+" "+r))
-			}
-		}
-	}
-	return list
-}
-
-func nodesOf(leaves []string, many int, inDo bool) []string {
-	var list []string
-	if many == 1 {
-		for _, l := range leaves {
-			if !inDo || l != "exit" {
-				list = append(list, l)
-			}
-		}
-	}
-	for _, a := range bodies(leaves, many-1, inDo) {
-		list = append(list, "if "+a+" then", "begin "+a+" until", "begin "+a+" again")
-	}
-	for _, a := range bodies(leaves, many-1, true) {
-		list = append(list, "do "+a+" loop")
-	}
-	for first := 0; first <= many-2; first++ {
-		for _, a := range bodies(leaves, first, inDo) {
-			for _, b := range bodies(leaves, many-2-first, inDo) {
-				list = append(list, "if "+a+" else "+b+" then", "begin "+a+" while "+b+" repeat")
-			}
-		}
-	}
-	return list
-}
-
 // wantAllModelled holds many bodies to the model, as many in a text as it has room for.
 func wantAllModelled(t *testing.T, first string, list []string) map[api.Errno]int {
 	t.Helper()
@@ -424,7 +382,7 @@ func TestEveryShortBody(t *testing.T) { // 11.1 to 11.4
 		3: "1 drop dup >r r> r@ i j exit halt w never bad",
 		4: "1 drop >r r> halt",
 	} {
-		met := wantAllModelled(t, first, bodies(strings.Fields(leaves), many, false))
+		met := wantAllModelled(t, first, sources.Bodies(strings.Fields(leaves), many, false))
 		wantMet(t, met, fine, badJoin, badLoop)
 		wantMet(t, met, badReturn)
 	}

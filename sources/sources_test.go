@@ -126,3 +126,27 @@ func TestWords(t *testing.T) {
 		t.Errorf("of no words: %v", got)
 	}
 }
+
+func TestBodies(t *testing.T) {
+	leaves := []string{"1", "exit"}
+	if got := sources.Bodies(leaves, 0, false); !slices.Equal(got, []string{""}) {
+		t.Errorf("of no words: %q", got)
+	}
+	got := sources.Bodies(leaves, 1, false)
+	want := []string{"1", "exit", "if  then", "begin  until", "begin  again", "do  loop"}
+	if !slices.Equal(got, want) {
+		t.Errorf("of one word: %q, want %q", got, want)
+	}
+	for many := range 4 {
+		seen := map[string]int{}
+		for _, body := range sources.Bodies(leaves, many, false) {
+			seen[body]++
+			if _, at, e := tree.Parse(": main " + body + " ;"); e != 0 || seen[body] > 1 {
+				t.Errorf("%s: %d at %v, %d times", body, e, at, seen[body])
+			}
+		}
+		if len(seen) < 1<<many {
+			t.Errorf("of %d words: %d", many, len(seen))
+		}
+	}
+}
