@@ -1,6 +1,8 @@
 package carts
 
 import (
+	"slices"
+
 	"wisp/api"
 	"wisp/sources"
 )
@@ -19,6 +21,27 @@ func Any(d sources.Dice) api.Cart {
 	}
 	s.close()
 	return s.cart()
+}
+
+// Changed is a copy of a source's cartridge in which so many of the cells behind the first 64 are primitives' threads now.
+func Changed(d sources.Dice, c api.Cart, many int) api.Cart {
+	c.Code = slices.Clone(c.Code)
+	for range many {
+		at := 128 + 2*d.Intn(len(c.Code)/2-64)
+		c.Code[at], c.Code[at+1] = byte(2*d.Intn(64)), 0
+	}
+	return c
+}
+
+// Budget is a frame's, small more often than not: so frames are cut in the midst of what is played.
+func Budget(d sources.Dice) int {
+	switch d.Intn(12) {
+	case 0:
+		return 4 + d.Intn(16381)
+	case 1, 2:
+		return 4 + d.Intn(500)
+	}
+	return 4 + d.Intn(30)
 }
 
 // scraps is short code of primitives' numbers and of addresses in it.

@@ -49,3 +49,33 @@ func TestAny(t *testing.T) { // all are cartridges, and many can be played, to e
 		}
 	}
 }
+
+func TestChanged(t *testing.T) { // the threads and the cartridge that was handed in stay
+	r := rand.New(rand.NewSource(2))
+	c := carts.Of(128, 1, 0x1234, 0x1234, 0x1234)
+	differ := 0
+	for many := range 40 {
+		x := carts.Changed(r, c, many)
+		if !bytes.Equal(c.Code, carts.Of(128, 1, 0x1234, 0x1234, 0x1234).Code) || !bytes.Equal(x.Code[:128], c.Code[:128]) || x.Entry != 128 || len(x.Code) != len(c.Code) {
+			t.Fatalf("%v: %v", c, x)
+		}
+		if !bytes.Equal(x.Code, c.Code) {
+			differ++
+		}
+	}
+	if differ < 30 || !bytes.Equal(carts.Changed(r, c, 0).Code, c.Code) {
+		t.Errorf("%d of 40 differ", differ)
+	}
+}
+
+func TestBudget(t *testing.T) { // all may be, small ones and great ones
+	r := rand.New(rand.NewSource(3))
+	least, greatest := 16384, 4
+	for range 200000 {
+		x := carts.Budget(r)
+		least, greatest = min(least, x), max(greatest, x)
+	}
+	if least != 4 || greatest > 16384 || greatest < 16000 {
+		t.Errorf("%d to %d", least, greatest)
+	}
+}

@@ -142,12 +142,7 @@ func anyCart(t *testing.T, r *rand.Rand) api.Cart {
 	if r.Intn(4) == 0 {
 		src = sources.New(r).Some()
 	}
-	c := cartOf(t, src)
-	for range r.Intn(3) {
-		at := 128 + 2*r.Intn(len(c.Code)/2-64)
-		c.Code[at], c.Code[at+1] = byte(2*r.Intn(64)), 0
-	}
-	return c
+	return carts.Changed(r, cartOf(t, src), r.Intn(3))
 }
 
 // modelledShapes says 17.2 once more, by the model of 17.1.
@@ -285,37 +280,13 @@ func calling(bodies []string, typed []effect.Typed) string {
 	return src.String() + ": main " + main.String() + ";"
 }
 
-func TestTypableSourcesAtTheLimits(t *testing.T) { // 17.3, W5: shapes with each number as great as may be
-	wantTyped(t, ": x "+times(256, "drop")+"; : main "+times(256, "1")+"x ;")
-	wantTyped(t, ": x "+times(256, "1")+"; : main x "+times(256, "drop")+";")
-	wantTyped(t, ": x "+times(127, "1 >r")+times(127, "r> drop")+"; : main x ;")
-	wantTyped(t, ": main "+times(32, "1 0 do")+times(64, "1 >r")+times(64, "r> drop")+times(32, "loop")+";")
-	chain, double := ": n0 ;", ": t0 1 2 ;"
-	for i := 1; i < 128; i++ {
-		chain += fmt.Sprintf(" : n%d n%d ;", i, i-1)
+func TestTypableExamples(t *testing.T) { // 17.3, W5: those of chapter 11, and shapes with each number as great as may be
+	for _, src := range sources.Typable() {
+		wantTyped(t, src)
 	}
-	for i := 1; i < 8; i++ {
-		double += fmt.Sprintf(" : t%d t%d t%d ;", i, i-1, i-1)
-	}
-	wantTyped(t, chain+" : main n127 ;")
-	wantTyped(t, double+" : main t7 "+times(256, "drop")+";")
-	l, v := infer.Shapes(cartOf(t, chain+" : n128 n127 ; : main n128 ;"))
+	l, v := infer.Shapes(cartOf(t, sources.Chain(129)+": main n128 ;"))
 	if v.Err != badDepth || len(l) != 0 {
 		t.Errorf("a return stack of 129: %v", v)
-	}
-	deep := strings.Repeat("1 if ", 32) + strings.Repeat("then ", 32)
-	wantTyped(t, ": main "+deep+";")
-}
-
-func TestTypableExamples(t *testing.T) { // 17.3, W5: those of chapter 11
-	for _, src := range []string{
-		": sq dup * ; : main 3 sq drop ;", ": two 1 2 ; : under drop drop 7 ; : main two under drop ;",
-		": a >r 1 r> + ; : main 1 a drop ;", ": d 5 0 do i drop loop ; : main d ;",
-		": f if 1 else 2 then ; : main 1 f drop ;", ": h begin 1 until ; : main h ;", ": k begin dup until ; : main 1 k drop ;",
-		": m begin again ; : main m ;", ": o if drop exit then drop ; : main 1 2 o ;", ": q halt 1 ; : main q ;",
-		": m begin again ; : p m drop drop ; : main p ;", ": bad drop ; : main begin yield again ;",
-	} {
-		wantTyped(t, src)
 	}
 }
 

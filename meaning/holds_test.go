@@ -11,6 +11,7 @@ import (
 
 	"wisp/api"
 	"wisp/cart"
+	"wisp/carts"
 	"wisp/comp"
 	"wisp/emit"
 	"wisp/meaning"
@@ -47,17 +48,6 @@ func anySource(r *rand.Rand) string {
 	return src
 }
 
-// anyBudget is small more often than not.
-func anyBudget(r *rand.Rand) int {
-	switch r.Intn(12) {
-	case 0:
-		return 4 + r.Intn(16381)
-	case 1, 2:
-		return 4 + r.Intn(500)
-	}
-	return 4 + r.Intn(30)
-}
-
 // lives tell how they have ended, and which primitives have come next behind their frames.
 type lives struct {
 	sync.Mutex
@@ -76,7 +66,7 @@ func (l *lives) many(t *testing.T, seed int64, programs int) {
 		var o api.Out
 		var next []int
 		for range 25 {
-			o = x.frame(t, uint8(r.Intn(256)), anyBudget(r))
+			o = x.frame(t, uint8(r.Intn(256)), carts.Budget(r))
 			p, _, _ := x.coded.Look()
 			next = append(next, p.Op)
 		}
@@ -131,7 +121,7 @@ func TestImagesAreMeant(t *testing.T) { // W3: of a source that is compiled, the
 		x := pairOf(t, src, taken(t, src))
 		x.coded, _ = vm.New(c)
 		for range 10 {
-			x.frame(t, uint8(r.Intn(256)), anyBudget(r))
+			x.frame(t, uint8(r.Intn(256)), carts.Budget(r))
 		}
 	}
 	for _, src := range []string{
@@ -224,7 +214,7 @@ func TestPlacesDoNotMatter(t *testing.T) { // 15.8: the same text with other gap
 		}
 		all := []*pair{pairOf(t, src, p), pairOf(t, src, gaps), pairOf(t, src, moved)}
 		for range 15 {
-			pad, budget := uint8(r.Intn(256)), anyBudget(r)
+			pad, budget := uint8(r.Intn(256)), carts.Budget(r)
 			want := all[0].frame(t, pad, budget)
 			for _, x := range all[1:] {
 				if o := x.frame(t, pad, budget); !reflect.DeepEqual(o, want) {
@@ -268,7 +258,7 @@ func TestTheProgramIsCopied(t *testing.T) { // 15.5, R3: what is handed to New s
 		}
 		x.meant = m
 		for n := range 10 {
-			x.frame(t, uint8(r.Intn(256)), anyBudget(r))
+			x.frame(t, uint8(r.Intn(256)), carts.Budget(r))
 			if n == 0 && !reflect.DeepEqual(spare.Whole(given), before) {
 				t.Fatalf("R3: %s: Frame has changed what New was handed", src)
 			}
@@ -315,7 +305,7 @@ func TestMachinesGoTheirWaysApart(t *testing.T) { // R3, R5: of one program, and
 		all := []*pair{pairOf(t, src, p), pairOf(t, src, p), pairOf(t, src, p)}
 		for range 40 {
 			x := all[r.Intn(len(all))]
-			x.frame(t, uint8(r.Intn(256)), anyBudget(r))
+			x.frame(t, uint8(r.Intn(256)), carts.Budget(r))
 			if r.Intn(10) == 0 {
 				pairOf(t, src, taken(t, anySource(r))).frame(t, 5, 100)
 			}
@@ -336,7 +326,7 @@ func TestTheSameAgain(t *testing.T) { // R5: a life is what its gamepads and bud
 		for _, m := range []*meaning.Machine{one, two} {
 			life := rand.New(rand.NewSource(seed))
 			for n := range 15 {
-				o, e := m.Frame(uint8(life.Intn(256)), anyBudget(life))
+				o, e := m.Frame(uint8(life.Intn(256)), carts.Budget(life))
 				if e != fine {
 					t.Fatal(e)
 				}

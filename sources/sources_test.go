@@ -6,6 +6,7 @@ import (
 	"strings"
 	"testing"
 
+	"wisp/api"
 	"wisp/effect"
 	"wisp/emit"
 	"wisp/sources"
@@ -96,6 +97,25 @@ func TestLivelyPrograms(t *testing.T) {
 	}
 	if long < 250 {
 		t.Errorf("only %d of 400 go on", long)
+	}
+}
+
+func TestTypable(t *testing.T) { // all are, and each number of a shape comes up to its limit
+	var most api.Shape
+	for _, src := range sources.Typable() {
+		p, at, e := tree.Parse(src)
+		f, where := effect.Typable(p)
+		if e != 0 || f != 0 {
+			t.Errorf("%.100s: %d at %v, %d at %v", src, e, at, f, where)
+		}
+		typed, _ := effect.Shapes(p)
+		for _, x := range typed {
+			s := x.Shape
+			most = api.Shape{In: max(most.In, s.In), Out: max(most.Out, s.Out), Data: max(most.Data, s.Data), Return: max(most.Return, s.Return)}
+		}
+	}
+	if most != (api.Shape{In: 256, Out: 256, Data: 256, Return: 128}) {
+		t.Errorf("the greatest numbers are %+v", most)
 	}
 }
 
