@@ -1,6 +1,7 @@
 package carts
 
 import (
+	"maps"
 	"slices"
 
 	"wisp/api"
@@ -29,6 +30,15 @@ func Changed(d sources.Dice, c api.Cart, many int) api.Cart {
 	for range many {
 		at := 128 + 2*d.Intn(len(c.Code)/2-64)
 		c.Code[at], c.Code[at+1] = byte(2*d.Intn(64)), 0
+	}
+	return c
+}
+
+// Declared is a cartridge with just the effects that these shapes say, by their addresses.
+func Declared(c api.Cart, shapes map[uint16]api.Shape) api.Cart {
+	c.Effects = nil
+	for _, at := range slices.Sorted(maps.Keys(shapes)) {
+		c.Effects = append(c.Effects, api.Effect{At: at, In: shapes[at].In, Out: shapes[at].Out})
 	}
 	return c
 }

@@ -3,6 +3,7 @@ package carts_test
 import (
 	"bytes"
 	"math/rand"
+	"slices"
 	"testing"
 
 	"wisp/api"
@@ -65,6 +66,18 @@ func TestChanged(t *testing.T) { // the threads and the cartridge that was hande
 	}
 	if differ < 30 || !bytes.Equal(carts.Changed(r, c, 0).Code, c.Code) {
 		t.Errorf("%d of 40 differ", differ)
+	}
+}
+
+func TestDeclared(t *testing.T) { // the effects that there were are gone, in what is told alone
+	c := carts.Of(128, 1, 16)
+	c.Effects = []api.Effect{{At: 2, In: 1}}
+	x := carts.Declared(c, map[uint16]api.Shape{140: {In: 3}, 128: {Out: 1, Data: 7, Return: 8}, 130: {In: 1, Out: 2, Never: true}})
+	if want := []api.Effect{{At: 128, Out: 1}, {At: 130, In: 1, Out: 2}, {At: 140, In: 3}}; !slices.Equal(x.Effects, want) || x.Entry != 128 || !bytes.Equal(x.Code, c.Code) {
+		t.Errorf("%v, want the effects %v", x, want)
+	}
+	if !slices.Equal(c.Effects, []api.Effect{{At: 2, In: 1}}) || len(carts.Declared(c, nil).Effects) > 0 {
+		t.Errorf("%v", c)
 	}
 }
 

@@ -1,7 +1,6 @@
 package check_test
 
 import (
-	"maps"
 	"math/rand"
 	"slices"
 	"testing"
@@ -63,11 +62,7 @@ func declared(c api.Cart) api.Cart {
 	if v.Err != fine {
 		return c
 	}
-	c.Effects = nil
-	for _, at := range slices.Sorted(maps.Keys(shapes)) {
-		c.Effects = append(c.Effects, api.Effect{At: at, In: shapes[at].In, Out: shapes[at].Out})
-	}
-	return c
+	return carts.Declared(c, shapes)
 }
 
 // spoilt is a cartridge of which one thing is said otherwise.

@@ -22,30 +22,11 @@ import (
 	"wisp/vm"
 )
 
-// slips are words that make a program fault, or go another way, where they are put in.
-const slips = "drop dup >r r> r@ i j exit halt yield 2dup 2drop 0 1 plot nip + ! @ begin again until if then else while repeat do loop"
-
-// anySource is one that goes on for long, or one with some words put in, taken out or changed, or one of any sort.
 func anySource(r *rand.Rand) string {
-	switch r.Intn(5) {
-	case 0, 1:
-		return sources.NewLively(r).Program(r.Intn(9))
-	case 2:
-		return sources.New(r).Some()
-	}
-	list := strings.Fields(slips)
-	l := sources.NewLively(r)
-	src := l.Program(r.Intn(9))
-	for range 6 {
-		words := l.Words
-		for range 1 + r.Intn(2) {
-			words = sources.Changed(r, list[r.Intn(len(list))], words...)
-		}
-		if p, _, e := tree.Parse(strings.Join(words, " ")); e == fine && len(p.Defs) > 0 {
-			return strings.Join(words, " ")
-		}
-	}
-	return src
+	return sources.Any(r, func(src string) bool {
+		_, _, e := tree.Parse(src)
+		return e == fine
+	})
 }
 
 // lives tell how they have ended, and which primitives have come next behind their frames.

@@ -100,6 +100,34 @@ func TestLivelyPrograms(t *testing.T) {
 	}
 }
 
+func TestAny(t *testing.T) { // all are well formed; some are typable, some are not; what is refused is not told
+	r := rand.New(rand.NewSource(4))
+	typable, others := 0, 0
+	for range 600 {
+		src := sources.Any(r, func(src string) bool {
+			_, _, e := tree.Parse(src)
+			return e == 0
+		})
+		p, at, e := tree.Parse(src)
+		if e != 0 {
+			t.Fatalf("%s: %d at %v", src, e, at)
+		}
+		if e, _ := effect.Typable(p); e == 0 {
+			typable++
+		} else {
+			others++
+		}
+	}
+	if typable < 200 || others < 100 {
+		t.Errorf("%d are typable, %d are not", typable, others)
+	}
+	for range 100 {
+		if p, _, e := tree.Parse(sources.Any(r, func(string) bool { return false })); e != 0 || len(p.Defs) == 0 {
+			t.Fatal(e)
+		}
+	}
+}
+
 func TestTypable(t *testing.T) { // all are, and each number of a shape comes up to its limit
 	var most api.Shape
 	for _, src := range sources.Typable() {
