@@ -184,7 +184,7 @@ func TestFunctionsAreSmall(t *testing.T) {
 	}
 }
 
-// startUp tells how many package variables of a package start-up code fills: DOC.md's section 'Ways'.
+// startUp tells how many package variables of a package start-up code or func init fills: DOC.md's section 'Ways'.
 var startUp = map[string]int{"pack": 1, "corpus": 1}
 
 // writtenOut tells whether a package variable's value stands where it is declared, and is no map.
@@ -222,12 +222,26 @@ func TestPackageVariables(t *testing.T) {
 			}
 		}
 	}
+	for folder := range startUp {
+		filled[folder] += 0
+	}
 	for folder, many := range filled {
-		if many > startUp[folder] {
-			t.Errorf("package %s: %d variables whose value is not written out where they are declared, want at most %d", folder, many, startUp[folder])
+		if many != startUp[folder] {
+			t.Errorf("package %s: %d variables whose value is not written out where they are declared, want %d", folder, many, startUp[folder])
 		}
 	}
-	if filled["pack"] != 1 {
-		t.Error("package pack: start-up code makes no table")
+}
+
+func TestInitIsCorpusAlone(t *testing.T) {
+	inits := map[string]int{}
+	for _, f := range program(t) {
+		for _, d := range f.tree.Decls {
+			if fn, ok := d.(*ast.FuncDecl); ok && fn.Recv == nil && fn.Name.Name == "init" {
+				inits[f.folder]++
+			}
+		}
+	}
+	if len(inits) != 1 || inits["corpus"] != 1 {
+		t.Errorf("func init stands in %v, want it once, in package corpus", inits)
 	}
 }
